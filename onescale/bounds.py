@@ -1,0 +1,18 @@
+"""The bounds that hold for buttons, trees, lots, scales, books and boards."""
+
+MAX_BUTTON = 99
+MAX_BUTTONS = 24
+MAX_DEPTH = 12
+MAX_LOT = 100
+MAX_LOTS = 300
+MAX_ROW = 12
+MAX_WEIGHT = 99999
+MAX_SUM = 2000
+MAX_LINES = 12
+MAX_FILL = 2000
+MAX_EVENTS = 100
+MAX_NAMES = 8
+MAX_NAME = 8
+MAX_NEST = 30
+MAX_EDITS = 40
+BATCH = 12

@@ -1,0 +1,219 @@
+"""What the tests share: exact comparison, trees by the hundred, any values, and plain reckonings to check against."""
+
+import copy
+import itertools
+import random
+import unittest
+
+
+def exact(value):
+    """A value told with its kinds, so that True is not 1 and a list is no tuple."""
+    kind = type(value).__name__
+    if isinstance(value, (tuple, list)):
+        return (kind, [exact(item) for item in value])
+    if isinstance(value, dict):
+        return (kind, sorted((repr(key), exact(worth)) for key, worth in value.items()))
+    return (kind, value)
+
+
+class Case(unittest.TestCase):
+    """A test case that compares exactly."""
+
+    def assertExact(self, got, wanted, note=None):
+        self.assertEqual(exact(got), exact(wanted), note)
+
+    def assertRaisesExact(self, wanted, function, *args):
+        """The call raises an error of just the class of wanted, which keeps just the same."""
+        with self.assertRaises(type(wanted)) as caught:
+            function(*args)
+        self.assertIs(type(caught.exception), type(wanted))
+        self.assertExact(vars(caught.exception), vars(wanted))
+
+    def assertLeavesAsItIs(self, function, *args):
+        """The call does not change what it is handed."""
+        before = copy.deepcopy(args)
+        try:
+            function(*args)
+        except ValueError:
+            pass
+        self.assertExact(args, before)
+
+
+# Values of all kinds.
+
+def nested(kind, depth):
+    """Values of one kind within one another."""
+    value = {"tuple": (), "list": [], "dict": {}, "trip": 0}[kind]
+    for _ in range(depth - 1):
+        value = {"tuple": (value,), "list": [value], "dict": {"in": value}, "trip": (1, (value,))}[kind]
+    return value
+
+
+BIG = 10 ** 400 - 1
+
+ANY_VALUES = [
+    None, True, False, 0, 1, 2, 5, -1, 99, 100, BIG, -BIG,
+    "", "0", "1", "none", "None", "5", "a line\nand more\n", "x" * 20000, "1" * 20000, "1[" * 10000, "[" * 20000,
+    (), [], {}, (0,), [0], (1, 2), [1, 2], {0: 1}, {"a": (1, [2, {3: None}])}, {(1, 2): 3, None: 4, True: 5},
+    (True,), (False,), (True, 2), (0, True), (False, True), (None,), ("0",), ("a", "b"), ((),), ([],), ({},),
+    (BIG,), (0, BIG), (-1,), (-1, 0), (1, 0), (1, 1), (0, 99), (0, 100), (1, (0,)), (True, (0,)), (1, [0]), [1, (0,)],
+    (1, (True,)), (1, (0,), 0), (1, ()), (0, (0,)), (2, (0,)), (BIG, (0,)), ("1", (0,)), (None, (0, 1)),
+    nested("tuple", 40), nested("list", 40), nested("dict", 40), nested("trip", 20), nested("trip", 14),
+    tuple(range(100)), tuple(range(101)), tuple(range(6000)), list(range(6000)), (0,) * 6000, (True,) * 6000,
+    {number: None for number in range(3000)}, tuple([(k, k) for k in range(1500)]), (1, tuple(range(25))),
+    (1, tuple(range(24))), ((0, 1), (2, 3), 0, 2), [(0, 1), (2, 3), 0, 2], (None, None, None, None),
+    ((0, 1), (2, 3), None, []), ("", "", "", ""), (1, (2, (3, (4, (5, 6))))),
+]
+
+
+# Trees.
+
+def compositions(items, many):
+    """All ways to cut a sequence into so many pieces of one item or more."""
+    if many == 1:
+        yield (items,)
+        return
+    for cut in range(1, len(items) - many + 2):
+        for rest in compositions(items[cut:], many - 1):
+            yield (items[:cut],) + rest
+
+
+def all_trees(buttons, depth):
+    """All trees with just these buttons in this order whose ways have at most depth places."""
+    found = [buttons[0]] if len(buttons) == 1 else []
+    if depth:
+        for many in range(1, len(buttons) + 1):
+            for pieces in compositions(buttons, many):
+                for parts in itertools.product(*[all_trees(piece, depth - 1) for piece in pieces]):
+                    found.extend((bound, parts) for bound in range(1, many + 1))
+    return found
+
+
+def random_tree(rng, buttons, depth=12, single=0.15):
+    """A tree with just these buttons, shuffled."""
+    buttons = list(buttons)
+    rng.shuffle(buttons)
+    return _random_thing(rng, tuple(buttons), depth, single)
+
+
+def _random_thing(rng, buttons, depth, single):
+    if len(buttons) == 1 and (depth == 0 or rng.random() >= single):
+        return buttons[0]
+    if depth == 1:
+        return (rng.randint(1, len(buttons)), buttons)
+    many = 1 if len(buttons) == 1 or rng.random() < single else rng.randint(2, len(buttons))
+    cuts = sorted(rng.sample(range(1, len(buttons)), many - 1))
+    ends = [0] + cuts + [len(buttons)]
+    parts = tuple([_random_thing(rng, buttons[low:high], depth - 1, single) for low, high in zip(ends, ends[1:])])
+    return (rng.choice([1, many, rng.randint(1, many)]), parts)
+
+
+def _made_small_trees():
+    rng = random.Random(7)
+    found = []
+    for buttons in ((0,), (99,), (1,), (0, 1), (3, 2)):
+        found.extend(all_trees(buttons, 3))
+    for buttons in itertools.permutations((0, 4, 9)):
+        found.extend(all_trees(buttons, 2))
+    found.extend(all_trees((1, 2, 0), 3))
+    found.extend(rng.sample(all_trees((5, 1, 8, 0), 3), 150))
+    for size in (4, 5, 5, 5, 6, 6):
+        found.extend(random_tree(rng, rng.sample(range(12), size), 5) for _ in range(30))
+    return found
+
+
+SMALL_TREES = _made_small_trees()
+
+# Trees nested 12 deep: bounds in turn one and two; and a button in trips of one part.
+STAIRS = 11
+for _button in range(10, -1, -1):
+    STAIRS = (1 + _button % 2, (_button, STAIRS))
+STAIRS = (1, (STAIRS,))
+WELL = (2, (50, nested("trip", 12), 51))
+
+HALF = (12, tuple(range(24)))
+
+
+def large_trees():
+    """Trees of 24 buttons, some of them nested 12 deep."""
+    rng = random.Random(24)
+    found = [HALF, (1, tuple(range(24))), (24, tuple(range(24))), STAIRS, WELL]
+    for _ in range(8):
+        found.append(random_tree(rng, rng.sample(range(100), 24), 12, 0.05))
+    deep = 23
+    for button in range(22, 0, -2):
+        deep = (rng.randint(1, 3), (button, button - 1, deep))
+    deep = (2, (0, deep))
+    found.append(deep)
+    return found
+
+
+# Plain reckonings, by the words of the document.
+
+def leaves(tree):
+    """The buttons of a tree in their order."""
+    if isinstance(tree, int):
+        return [tree]
+    return [button for part in tree[1] for button in leaves(part)]
+
+
+def plain_goes(tree, lot):
+    """Whether a tree goes with a lot."""
+    if isinstance(tree, int):
+        return tree in set(lot)
+    return sum(1 for part in tree[1] if plain_goes(part, lot)) >= tree[0]
+
+
+def lots_of(buttons):
+    """All lots of these buttons, ascending."""
+    buttons = sorted(buttons)
+    found = []
+    for size in range(len(buttons) + 1):
+        found.extend(itertools.combinations(buttons, size))
+    return sorted(found)
+
+
+def going_lots(tree):
+    """All lots of the tree's buttons that go, ascending."""
+    return [lot for lot in lots_of(leaves(tree)) if plain_goes(tree, lot)]
+
+
+def plain_least(tree):
+    """All least lots, ascending: those that go and do not hold another one that goes."""
+    going = going_lots(tree)
+    return [lot for lot in going if not any(
+        plain_goes(tree, lot[:place] + lot[place + 1:]) for place in range(len(lot)))]
+
+
+def put_to(lot, *buttons):
+    """The lot with buttons put to it."""
+    return tuple(sorted(lot + buttons))
+
+
+def all_ways(thing):
+    """The pairs of a way and of what it leads to, by ascending ways."""
+    found = {(): thing}
+    todo = [()]
+    while todo:
+        way = todo.pop()
+        if isinstance(found[way], tuple):
+            for place, part in enumerate(found[way][1]):
+                found[way + (place,)] = part
+                todo.append(way + (place,))
+    return sorted(found.items())
+
+
+def shuffled(rng, tree):
+    """A tree that is alike, with parts in another order, trips of one part, and one-ofs and all-ofs cut in two."""
+    if isinstance(tree, int):
+        return (1, (tree,)) if rng.random() < 0.2 else tree
+    bound, parts = tree[0], list(tree[1])
+    rng.shuffle(parts)
+    parts = [shuffled(rng, part) for part in parts]
+    if len(parts) > 2 and bound in (1, len(parts)) and rng.random() < 0.7:
+        cut = rng.randint(1, len(parts) - 2)
+        inner = (1 if bound == 1 else len(parts) - cut, tuple(parts[cut:]))
+        parts = parts[:cut] + [inner]
+        bound = 1 if bound == 1 else len(parts)
+    made = (bound, tuple(parts))
+    return (1, (made,)) if rng.random() < 0.1 else made

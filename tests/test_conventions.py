@@ -1,0 +1,108 @@
+"""Point A3 and the interface, for every def: names of arguments, kinds of what is returned, equal calls."""
+
+import copy
+import importlib
+import inspect
+
+from tests.support import HALF, SMALL_TREES, STAIRS, WELL, Case, large_trees
+
+# Of each module its defs with the names of their arguments.
+DEFS = {
+    "trips": {"tree_error": ["value"], "buttons_of": ["tree"], "ways": ["tree"], "part_at": ["tree", "value"],
+              "way_to": ["tree", "value"], "depth_of": ["tree"]},
+    "lots": {"lot_error": ["value"], "goes": ["tree", "lot"], "going_ways": ["tree", "lot"], "counts": ["tree", "lot"]},
+    "triptexts": {"tree_text": ["tree"], "read_tree": ["value"], "lot_text": ["lot"], "read_lot": ["value"]},
+    "told": {"told": ["tree"], "is_told": ["tree"], "alike": ["one", "other"]},
+    "stuck": {"left": ["tree", "on", "off"]},
+}
+
+# What stands for an argument of this name; for value what the def expects there, or something wrong.
+TREES = [5, 1, 0, (2, (0, (1, (3, 4)), 7)), (1, ((2, (1, 0)), (2, (5, 3)))), (1, ((1, (1,)),)), STAIRS, WELL]
+STANDING = {
+    "tree": TREES, "one": TREES, "other": TREES[::-1], "lot": [(), (0, 3), (1, 5, 99), tuple(range(100))],
+    "on": [(), (0,), (1, 50)], "off": [(), (3,), (4, 60)], "must": [(), (0,), (1, 50)], "never": [(), (3,), (0, 60)],
+    "value": [0, 1, True, False, None, (), (0,), (1,), (True,), (0, 3), [0, 3], {0: [1]}, "1[5]", "0 3",
+              (1, (0, [1])), (1, (5,))],
+}
+
+# Where a value is a button that one and other name.
+BUTTON_ARGUMENTS = {}
+
+
+def calls_of(module, name):
+    """Calls of a def: what stands for each of its arguments."""
+    rows = [{}]
+    for argument in DEFS[module][name]:
+        standing = BUTTON_ARGUMENTS.get(module, {}).get(argument, STANDING[argument])
+        rows = [dict(row, **{argument: value}) for row in rows for value in standing]
+    return rows
+
+
+def outcome(function, *args, **more):
+    """What a call returns, or what it raises."""
+    try:
+        return ("returned", function(*args, **more))
+    except ValueError as error:
+        return ("raised", type(error).__name__, vars(error))
+
+
+class Conventions(Case):
+
+    def functions(self):
+        for module in DEFS:
+            for name in DEFS[module]:
+                yield module, name, getattr(importlib.import_module("onescale." + module), name)
+
+    def test_defined_where_they_are_listed(self):
+        for module, name, function in self.functions():
+            self.assertTrue(inspect.isfunction(function))
+            self.assertEqual(function.__module__, "onescale." + module)
+            self.assertEqual(function.__name__, name)
+
+    def test_names_of_arguments(self):
+        for module, name, function in self.functions():
+            self.assertEqual(list(inspect.signature(function).parameters), DEFS[module][name], name)
+
+    def test_by_place_and_by_name(self):
+        for module, name, function in self.functions():
+            for call in calls_of(module, name)[::7]:
+                by_place = outcome(function, *call.values())
+                backwards = {argument: call[argument] for argument in reversed(list(call))}
+                self.assertExact(outcome(function, **call), by_place)
+                self.assertExact(outcome(function, **backwards), by_place)
+                first = list(call)[0]
+                rest = {argument: call[argument] for argument in list(call)[1:]}
+                self.assertExact(outcome(function, call[first], **rest), by_place)
+
+    def test_equal_calls(self):
+        # What one call learns must not show in another one: so all are done once more, backwards.
+        for module, name, function in self.functions():
+            calls = calls_of(module, name)
+            told = [outcome(function, *call.values()) for call in calls]
+            again = [outcome(function, *copy.deepcopy(list(call.values()))) for call in calls[::-1]][::-1]
+            self.assertExact(again, told, name)
+
+    def test_arguments_stay_as_they_are(self):
+        for module, name, function in self.functions():
+            for call in calls_of(module, name):
+                self.assertLeavesAsItIs(function, *call.values())
+
+    def test_only_tuples_are_returned(self):
+        for module, name, function in self.functions():
+            for call in calls_of(module, name):
+                told = outcome(function, *call.values())
+                if told[0] == "returned":
+                    self.check_kinds(told[1], name)
+
+    def check_kinds(self, value, name):
+        self.assertIn(type(value).__name__, ("tuple", "int", "bool", "str", "NoneType"), name)
+        if isinstance(value, tuple):
+            for item in value:
+                self.check_kinds(item, name)
+
+    def test_trees_of_all_sizes_are_let_by(self):
+        for module, name, function in self.functions():
+            if DEFS[module][name] == ["tree"]:
+                for tree in SMALL_TREES[::50] + large_trees() + [HALF]:
+                    told = outcome(function, tree)
+                    self.assertEqual(told[0] if told[1] != "TooMany" else "returned", "returned", name)

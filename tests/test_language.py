@@ -1,0 +1,236 @@
+"""That the package keeps to its small part of Python: of the rules of LANGUAGE.md those that the text of a file shows.
+
+Where a rule lets more by than the package needs, the check is narrower than the rule: no generators and generator
+expressions, no sets but those that are sorted or counted on the spot, no try, no library modules, no keywords but key.
+"""
+
+import ast
+import builtins
+import pathlib
+import re
+import unittest
+
+PACKAGE = pathlib.Path(__file__).parent.parent / "onescale"
+
+STATEMENTS = (ast.Assign, ast.AugAssign, ast.If, ast.While, ast.For, ast.Return, ast.Break, ast.Continue, ast.Pass,
+              ast.Raise, ast.Expr, ast.FunctionDef)
+EXPRESSIONS = (ast.BoolOp, ast.BinOp, ast.UnaryOp, ast.IfExp, ast.Dict, ast.ListComp, ast.DictComp, ast.Compare, ast.Call,
+               ast.Constant, ast.Attribute, ast.Subscript, ast.Starred, ast.Name, ast.List, ast.Tuple, ast.Slice)
+BUILTINS = {"len", "range", "enumerate", "zip", "min", "max", "sum", "abs", "sorted", "int", "str", "bool", "list",
+            "tuple", "dict", "set", "isinstance", "any", "all", "divmod", "ValueError"}
+METHODS = {"append", "count", "extend", "find", "get", "index", "items", "join", "pop", "split", "startswith",
+           "endswith", "strip", "isdigit", "keys", "values"}
+BARRED = {"register", "mro", "elements", "open", "input", "law", "version_info", "with_traceback", "add_note", "type",
+          "typing", "enum", "Enum", "namedtuple", "Protocol", "Generic", "dataclass", "overload", "contextmanager",
+          "eval", "exec", "exit", "globals", "locals", "vars", "dir", "id", "super", "getattr", "setattr", "hasattr",
+          "compile", "help", "license", "copyright", "credits", "quit", "gc", "os", "sys", "importlib", "format"}
+ERROR_BASE = "ValueError"
+
+
+def files():
+    """The pairs of a file of the package and of its text."""
+    return [(path, path.read_text(encoding="ascii")) for path in sorted(PACKAGE.rglob("*.py"))]
+
+
+def bound_names(tree):
+    """The names of parameters, variables, functions, classes and imports in a part of a file."""
+    found = []
+    for node in ast.walk(tree):
+        if isinstance(node, ast.Name) and isinstance(node.ctx, (ast.Store, ast.Del)):
+            found.append(node.id)
+        elif isinstance(node, ast.arg):
+            found.append(node.arg)
+        elif isinstance(node, (ast.FunctionDef, ast.ClassDef)):
+            found.append(node.name)
+        elif isinstance(node, ast.alias):
+            found.append(node.asname or node.name)
+    return found
+
+
+def imports_of(tree):
+    """The pairs of a module and of a name that a file imports from it."""
+    return [(node.module, alias.name) for node in tree.body if isinstance(node, ast.ImportFrom) for alias in node.names]
+
+
+class Language(unittest.TestCase):
+
+    def each(self):
+        for path, text in files():
+            yield path, text, ast.parse(text)
+
+    def test_folder(self):
+        # L1, L14
+        self.assertTrue((PACKAGE / "__init__.py").exists())
+        names = [path.name for path in PACKAGE.iterdir() if path.name != "__pycache__"]
+        self.assertLessEqual(len(names), 100)
+        for name in names:
+            self.assertRegex(name, "^([a-z][a-z0-9_]*|__init__)[.]py$")
+            self.assertNotIn(name[:-3], dir(builtins))
+
+    def test_signs_and_sizes(self):
+        # L10, L14
+        for path, text in files():
+            lines = text.split("\n")
+            self.assertFalse(re.findall("[^ -~\n]", text), path)
+            self.assertLessEqual(len(lines), 399, path)
+            self.assertLessEqual(max(len(line) for line in lines), 120, path)
+            for node in ast.walk(ast.parse(text)):
+                if isinstance(node, ast.FunctionDef):
+                    self.assertLessEqual(node.end_lineno - node.lineno + 1, 40, (path, node.name))
+
+    def test_module_level(self):
+        # L3, L15
+        for path, _, tree in self.each():
+            names = []
+            for place, node in enumerate(tree.body):
+                if isinstance(node, ast.Expr):
+                    self.assertTrue(place == 0 and isinstance(node.value, ast.Constant))
+                elif isinstance(node, ast.Assign):
+                    self.assertTrue(len(node.targets) == 1 and isinstance(node.targets[0], ast.Name))
+                    self.assertIsInstance(node.value, ast.Constant)
+                    names.append(node.targets[0].id)
+                elif isinstance(node, ast.ImportFrom):
+                    names.extend(alias.name for alias in node.names)
+                else:
+                    self.assertIsInstance(node, (ast.FunctionDef, ast.ClassDef))
+                    names.append(node.name)
+            self.assertEqual(len(names), len(set(names)))
+
+    def test_imports(self):
+        # L2, L16
+        defined = {"onescale." + path.stem: [node.name for node in tree.body
+                                             if isinstance(node, (ast.FunctionDef, ast.ClassDef))]
+                   + [node.targets[0].id for node in tree.body if isinstance(node, ast.Assign)]
+                   for path, _, tree in self.each()}
+        wanted = {}
+        for path, text, tree in self.each():
+            self.assertFalse([node for node in ast.walk(tree) if isinstance(node, ast.Import)])
+            rows = imports_of(tree)
+            wanted["onescale." + path.stem] = [module for module, _ in rows]
+            for module, name in rows:
+                self.assertIn(name, defined[module])
+                self.assertFalse(name.startswith("_"))
+                self.assertGreater(len(re.findall(r"\b" + name + r"\b", text)), 1, "imported and not used")
+            for node in tree.body:
+                if isinstance(node, ast.ImportFrom):
+                    self.assertEqual(node.level, 0)
+                    self.assertFalse([alias for alias in node.names if alias.asname])
+        done = []
+        while len(done) < len(wanted):
+            ready = [module for module in wanted if module not in done and all(name in done for name in wanted[module])]
+            self.assertTrue(ready, "files import from each other")
+            done.extend(ready)
+
+    def test_statements_and_expressions(self):
+        # L6, L7, L24
+        for path, _, tree in self.each():
+            for function in [node for node in ast.walk(tree) if isinstance(node, ast.FunctionDef)]:
+                self.assertFalse(function.decorator_list)
+                for node in ast.walk(function):
+                    if isinstance(node, ast.stmt):
+                        self.assertIsInstance(node, STATEMENTS)
+                    elif isinstance(node, ast.expr):
+                        self.assertIsInstance(node, EXPRESSIONS, ast.unparse(node))
+                    self.assertNotIsInstance(node, (ast.Div, ast.MatMult, ast.Pow))
+                    if isinstance(node, ast.Constant):
+                        self.assertNotIsInstance(node.value, (float, complex, bytes))
+                        self.assertFalse(isinstance(node.value, str) and "%" in node.value)
+                    if isinstance(node, ast.Compare):
+                        for operator, side in zip(node.ops, node.comparators):
+                            if isinstance(operator, (ast.Is, ast.IsNot)):
+                                self.assertTrue(isinstance(side, ast.Constant) and side.value in (None, True, False))
+
+    def test_sets_are_used_on_the_spot(self):
+        # L24
+        for path, _, tree in self.each():
+            on_the_spot = [node.args[0] for node in ast.walk(tree) if isinstance(node, ast.Call)
+                           and isinstance(node.func, ast.Name) and node.func.id in ("sorted", "len") and not node.keywords]
+            for node in ast.walk(tree):
+                if isinstance(node, ast.Call) and isinstance(node.func, ast.Name) and node.func.id == "set":
+                    self.assertIn(node, on_the_spot)
+
+    def test_kept_iterators(self):
+        # L23
+        for path, _, tree in self.each():
+            iterated = []
+            for node in ast.walk(tree):
+                if isinstance(node, (ast.For, ast.comprehension)):
+                    iterated.append(node.iter)
+                elif isinstance(node, ast.Call) and isinstance(node.func, ast.Name):
+                    iterated.extend(node.args)
+            for node in ast.walk(tree):
+                if isinstance(node, ast.Call):
+                    name = node.func.id if isinstance(node.func, ast.Name) else node.func.attr
+                    if name in ("range", "enumerate", "zip", "items", "keys", "values"):
+                        self.assertIn(node, iterated)
+
+    def test_calls(self):
+        # L8, L22, L25
+        for path, _, tree in self.each():
+            own = bound_names(tree)
+            for node in ast.walk(tree):
+                if isinstance(node, ast.Name) and node.id not in own:
+                    self.assertIn(node.id, BUILTINS)
+                if isinstance(node, ast.Call):
+                    self.assertIsInstance(node.func, (ast.Name, ast.Attribute))
+                    if isinstance(node.func, ast.Attribute) and node.func.attr != "__init__":
+                        self.assertIn(node.func.attr, METHODS)
+                    for keyword in node.keywords:
+                        self.assertIn(keyword.arg, ("key",))
+                    if isinstance(node.func, ast.Name) and node.func.id == "isinstance":
+                        self.assertIn(ast.unparse(node.args[1]), ("int", "str", "bool", "list", "tuple", "dict"))
+
+    def test_names(self):
+        # L8, L12, L15, L17
+        for path, text, tree in self.each():
+            imported = [name for _, name in imports_of(tree)]
+            for name in bound_names(tree):
+                self.assertRegex(name, "^(_|_?[A-Za-z][A-Za-z0-9_]*|__init__)$")
+                self.assertNotIn(name, dir(builtins))
+                self.assertNotIn(name, BARRED)
+            for node in ast.walk(tree):
+                if isinstance(node, ast.Name) and isinstance(node.ctx, ast.Store):
+                    self.assertNotIn(node.id, imported)
+                    self.assertFalse(node.id == "_" and isinstance(node.ctx, ast.Load))
+                elif isinstance(node, ast.arg):
+                    self.assertNotIn(node.arg, imported)
+                elif isinstance(node, ast.Attribute):
+                    self.assertNotIn(node.attr, BARRED)
+                elif isinstance(node, ast.Constant) and isinstance(node.value, str):
+                    self.assertFalse([word for word in ("type", "typing", "enum") if node.value == word])
+
+    def test_functions_do_not_hide_module_names(self):
+        for path, _, tree in self.each():
+            above = [node.name for node in tree.body if isinstance(node, (ast.FunctionDef, ast.ClassDef))]
+            for function in [node for node in tree.body if isinstance(node, ast.FunctionDef)]:
+                self.assertFalse([name for name in bound_names(function)[1:] if name in above], function.name)
+
+    def test_loops_do_not_change_what_they_go_over(self):
+        # L23
+        for path, _, tree in self.each():
+            for loop in [node for node in ast.walk(tree) if isinstance(node, ast.For)]:
+                over = ast.unparse(loop.iter)
+                for node in ast.walk(ast.Module(loop.body, [])):
+                    if isinstance(node, ast.Call) and isinstance(node.func, ast.Attribute):
+                        if node.func.attr in ("append", "extend", "pop", "insert", "remove", "clear"):
+                            self.assertNotRegex(over, r"\b" + re.escape(ast.unparse(node.func.value)) + r"\b")
+
+    def test_errors(self):
+        # L18, L19, L28
+        for path, _, tree in self.each():
+            for node in ast.walk(tree):
+                if isinstance(node, ast.Raise):
+                    self.assertIsInstance(node.exc, ast.Call)
+                    self.assertIsNone(node.cause)
+                if isinstance(node, ast.ClassDef):
+                    self.assertEqual(path.name, "errors.py")
+                    self.assertEqual([base.id for base in node.bases],
+                                     [ERROR_BASE if node.name == "TripError" else "TripError"])
+                    self.assertFalse(node.decorator_list or node.keywords)
+
+    def test_no_annotations(self):
+        # L21
+        for path, _, tree in self.each():
+            for node in ast.walk(tree):
+                self.assertIsNone(getattr(node, "annotation", None))
+                self.assertIsNone(getattr(node, "returns", None))
