@@ -23,3 +23,69 @@ def least_button(thing):
     while is_trip(thing):
         thing = thing[1][0]
     return thing
+
+
+def trips_in(thing):
+    """All trips in a thing, itself first, in order of their ways."""
+    if not is_trip(thing):
+        return []
+    found = [thing]
+    for part in thing[1]:
+        found.extend(trips_in(part))
+    return found
+
+
+def trip_parts(trip):
+    """The parts of a trip that are trips, in their order."""
+    return [part for part in trip[1] if is_trip(part)]
+
+
+def first_fork(tree):
+    """The first trip in order of which two parts are trips, None if there is none."""
+    for trip in trips_in(tree):
+        if len(trip_parts(trip)) > 1:
+            return trip
+    return None
+
+
+def with_button(lot, button):
+    """The lot with a button put to it."""
+    return tuple(sorted(lot + (button,)))
+
+
+def without_button(lot, button):
+    """The lot with a button taken out."""
+    return tuple([other for other in lot if other != button])
+
+
+def tally(rows):
+    """Rows are pairs of numbers. Item j: the sum, over all ways to choose j rows, of the product of
+    the first numbers of these rows and the second numbers of all others."""
+    sums = [1]
+    for first, second in rows:
+        longer = [0] * (len(sums) + 1)
+        for chosen, total in enumerate(sums):
+            longer[chosen] += total * second
+            longer[chosen + 1] += total * first
+        sums = longer
+    return sums
+
+
+# A number can tell how many lots of each size there are: as figures to this base, that of the size 0 last.
+# To add and to multiply such numbers adds lots and puts them together. As a tree has at most 2 ** 24 lots
+# of its buttons no figure reaches the base, which is 2 ** 32.
+SIZE_BASE = 4294967296
+
+
+def by_size(number):
+    """How many lots of 0, 1, 2 .. buttons a number tells, up to the greatest size that it has."""
+    sizes = []
+    while number > 0:
+        sizes.append(number % SIZE_BASE)
+        number = number // SIZE_BASE
+    return sizes
+
+
+def button_pair(button, must, never, weight):
+    """The numbers of lots with and without a button that must and never let by, one with it counting as weight."""
+    return (0 if button in never else weight, 0 if button in must else 1)

@@ -2,6 +2,7 @@
 
 from onescale.bounds import MAX_LOT
 from onescale.helpers import is_button, is_trip
+from onescale.trips import buttons_of
 
 
 def lot_error(value):
@@ -48,3 +49,11 @@ def _states(thing, lot):
             number += 1
         within.extend([((place,) + way, many, does) for way, many, does in rows])
     return [((), number, number >= bound)] + within
+
+
+def is_going_lot(tree, value):
+    """Whether any value is a lot of buttons of the tree that goes."""
+    if lot_error(value) is not None:
+        return False
+    buttons = buttons_of(tree)
+    return not [button for button in value if button not in buttons] and goes(tree, value)

@@ -119,7 +119,21 @@ def _made_small_trees():
     found.extend(rng.sample(all_trees((5, 1, 8, 0), 3), 150))
     for size in (4, 5, 5, 5, 6, 6):
         found.extend(random_tree(rng, rng.sample(range(12), size), 5) for _ in range(30))
+    for size in (4, 5, 5, 6):
+        found.extend(_random_fork(rng, rng.sample(range(12), size)) for _ in range(30))
     return found
+
+
+def _random_fork(rng, buttons):
+    """A trip with two parts that are trips and perhaps buttons, perhaps within another trip."""
+    cut = rng.randint(2, len(buttons) - 2)
+    parts = [(rng.randint(1, cut), tuple(buttons[:cut])), (rng.randint(1, 2), tuple(buttons[cut:cut + 2]))]
+    further = buttons[cut + 2:]
+    around = further[:1] if rng.random() < 0.3 else []
+    parts.extend(further[len(around):])
+    rng.shuffle(parts)
+    fork = (rng.randint(1, len(parts)), tuple(parts))
+    return (rng.randint(1, 2), (around[0], fork)) if around else fork
 
 
 SMALL_TREES = _made_small_trees()

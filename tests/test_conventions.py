@@ -14,6 +14,16 @@ DEFS = {
     "triptexts": {"tree_text": ["tree"], "read_tree": ["value"], "lot_text": ["lot"], "read_lot": ["value"]},
     "told": {"told": ["tree"], "is_told": ["tree"], "alike": ["one", "other"]},
     "stuck": {"left": ["tree", "on", "off"]},
+    "parting": {"parting_lot": ["one", "other"]},
+    "contraries": {"contrary": ["tree"]},
+    "leastlots": {"least_lots": ["tree"], "is_least": ["tree", "lot"], "thinned": ["tree", "lot"]},
+    "leastcounts": {"least_count": ["tree", "must", "never"], "least_sizes": ["tree"], "least_at": ["tree", "value"],
+                    "least_number": ["tree", "value"]},
+    "goingcounts": {"going_count": ["tree", "must", "never"], "going_sizes": ["tree"], "going_at": ["tree", "value"],
+                    "going_number": ["tree", "value"]},
+    "ranks": {"no_worse": ["tree", "one", "other"], "worse_lot": ["tree", "one", "other"], "alike_buttons": ["tree"],
+              "above": ["tree"], "is_chain": ["tree"], "gain": ["tree", "one", "other"]},
+    "swaps": {"swap_of": ["tree"], "swap_holds": ["tree", "value"]},
 }
 
 # What stands for an argument of this name; for value what the def expects there, or something wrong.
@@ -21,12 +31,13 @@ TREES = [5, 1, 0, (2, (0, (1, (3, 4)), 7)), (1, ((2, (1, 0)), (2, (5, 3)))), (1,
 STANDING = {
     "tree": TREES, "one": TREES, "other": TREES[::-1], "lot": [(), (0, 3), (1, 5, 99), tuple(range(100))],
     "on": [(), (0,), (1, 50)], "off": [(), (3,), (4, 60)], "must": [(), (0,), (1, 50)], "never": [(), (3,), (0, 60)],
-    "value": [0, 1, True, False, None, (), (0,), (1,), (True,), (0, 3), [0, 3], {0: [1]}, "1[5]", "0 3",
-              (1, (0, [1])), (1, (5,))],
+    "value": [0, 1, 2, True, False, None, (), (0,), (1,), (True,), (0, 3), [0, 3], {0: [1]}, "1[5]", "0 3",
+              (1, (0, [1])), (1, (5,)), ((0, 1), (3, 5), 0, 3), ((0, 1), [3, 5], 0, 3)],
 }
 
-# Where a value is a button that one and other name.
-BUTTON_ARGUMENTS = {}
+# In ranks one and other are buttons, or any values.
+ONES = [0, 1, 3, True, False, None, 5, [0], "0"]
+BUTTON_ARGUMENTS = {"ranks": {"one": ONES, "other": ONES[::-1]}}
 
 
 def calls_of(module, name):

@@ -48,3 +48,6 @@ class Examples(Case):
 
     def test_trees(self):
         self.check_file("trees.txt", 29)
+
+    def test_lots(self):
+        self.check_file("lots.txt", 55)
