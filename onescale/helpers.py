@@ -1,6 +1,9 @@
 """What several modules need: kinds of values, and what stands in a tree."""
 
 from onescale.bounds import MAX_BUTTON
+from onescale.errors import BadText
+
+FIGURES = "0123456789"
 
 
 def is_integer(value):
@@ -48,6 +51,16 @@ def first_fork(tree):
     return None
 
 
+def number_of(figures, most):
+    """The integer of which a text of at most so many figures is the decimal. The bound is asked ahead of
+    all else, so a number of thousands of figures is never made an integer."""
+    if not 1 <= len(figures) <= most or [sign for sign in figures if sign not in FIGURES]:
+        raise BadText()
+    if len(figures) > 1 and figures[0] == "0":
+        raise BadText()
+    return int(figures)
+
+
 def with_button(lot, button):
     """The lot with a button put to it."""
     return tuple(sorted(lot + (button,)))
@@ -89,3 +102,26 @@ def by_size(number):
 def button_pair(button, must, never, weight):
     """The numbers of lots with and without a button that must and never let by, one with it counting as weight."""
     return (0 if button in never else weight, 0 if button in must else 1)
+
+
+def pair_and_weights(shape):
+    """Of a shape, levels (bound, how many own buttons) from the outermost on: its pair, and for each level
+    the weight of the buttons in it."""
+    bound, many = shape[-1]
+    first, second = bound, many - bound + 1
+    weights = [1]
+    for bound, many in shape[:-1][::-1]:
+        if bound == 1:
+            weight = first
+        elif bound > many:
+            weight = second
+        else:
+            weight = max(first, second)
+        weights.append(weight)
+        first, second = first + (bound - 1) * weight, second + (many - bound + 1) * weight
+    return (first, second), tuple(weights[::-1])
+
+
+def weight_sum(rows):
+    """The sum of all weights of the rows of a scale."""
+    return sum([weight for _, weight in rows])

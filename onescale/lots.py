@@ -51,9 +51,14 @@ def _states(thing, lot):
     return [((), number, number >= bound)] + within
 
 
-def is_going_lot(tree, value):
-    """Whether any value is a lot of buttons of the tree that goes."""
+def is_lot_of(tree, value):
+    """Whether any value is a lot of buttons of the tree."""
     if lot_error(value) is not None:
         return False
     buttons = buttons_of(tree)
-    return not [button for button in value if button not in buttons] and goes(tree, value)
+    return not [button for button in value if button not in buttons]
+
+
+def is_going_lot(tree, value):
+    """Whether any value is a lot of buttons of the tree that goes."""
+    return is_lot_of(tree, value) and goes(tree, value)

@@ -2,13 +2,11 @@
 
 from onescale.bounds import MAX_DEPTH
 from onescale.errors import BadText
-from onescale.helpers import is_trip
+from onescale.helpers import FIGURES, is_trip, number_of
 from onescale.lots import lot_error
 from onescale.trips import tree_error
 
-FIGURES = "0123456789"
-
-# No button and no bound has more; so a number of thousands of figures is never made an integer.
+# No button and no bound has more.
 MOST_FIGURES = 2
 
 
@@ -54,16 +52,7 @@ def _number_from(text, start):
     behind = start
     while behind < len(text) and text[behind] in FIGURES:
         behind += 1
-    return _number_of(text[start:behind]), behind
-
-
-def _number_of(figures):
-    """The integer of which figures are the decimal."""
-    if not 1 <= len(figures) <= MOST_FIGURES or [sign for sign in figures if sign not in FIGURES]:
-        raise BadText()
-    if len(figures) > 1 and figures[0] == "0":
-        raise BadText()
-    return int(figures)
+    return number_of(text[start:behind], MOST_FIGURES), behind
 
 
 def lot_text(lot):
@@ -77,7 +66,7 @@ def read_lot(value):
         raise BadText()
     if value == "none":
         return ()
-    lot = tuple([_number_of(word) for word in value.split(" ")])
+    lot = tuple([number_of(word, MOST_FIGURES) for word in value.split(" ")])
     if lot_error(lot) is not None:
         raise BadText()
     return lot

@@ -63,6 +63,11 @@ ANY_VALUES = [
     {number: None for number in range(3000)}, tuple([(k, k) for k in range(1500)]), (1, tuple(range(25))),
     (1, tuple(range(24))), ((0, 1), (2, 3), 0, 2), [(0, 1), (2, 3), 0, 2], (None, None, None, None),
     ((0, 1), (2, 3), None, []), ("", "", "", ""), (1, (2, (3, (4, (5, 6))))),
+    (((0, 1),), 1), [((0, 1),), 1], ([(0, 1)], 1), (([0, 1],), 1), (((0, True),), 1), (((False, 1),), 1), (((0, 1),), True),
+    (((0, BIG),), 1), (((0, 1),), BIG), (((5, 1),), 1), (((0, 1), (1, 1)), 2), (((0, 1), (0, 1)), 2), ((), 1), (((0, 0),), 1),
+    (((0, None),), 1), (((0, 1, 1),), 1), (((0, 1),), 1, 1), (((0, 1),), "1"), (((5,), ()),), [((5,), ())], (((0,), ()),) * 300,
+    "1: 0=1", "1: 0=1 ", "1:0=1", ": 0=1", "1: =1", "1: 0=", "1: 0=1\n", "1: 0=" + "1" * 9000, "1" * 9000 + ": 0=1",
+    "1: " + "0=1 " * 4000, "=" * 5000, ": " * 5000, " " * 5000, "1: 0=01", "1: 0=+1", "1: 0=1 0=1", "2: 0=1 1=1",
 ]
 
 
@@ -231,3 +236,81 @@ def shuffled(rng, tree):
         bound = 1 if bound == 1 else len(parts)
     made = (bound, tuple(parts))
     return (1, (made,)) if rng.random() < 0.1 else made
+
+
+# Nests and scales.
+
+def nest_from(shape, buttons):
+    """The nest with levels (bound, how many buttons), the outermost first, that get the buttons in their order."""
+    (bound, many), rest = shape[0], shape[1:]
+    own = tuple(buttons[:many])
+    return (bound, own + (nest_from(rest, buttons[many:]),)) if rest else (bound, own)
+
+
+# Twelve levels of 24 buttons with the greatest pairs, by their sum and by their greater item, and weights.
+GREATEST_SHAPES = [
+    ((1, 1),) + ((3, 2), (1, 2)) * 5 + ((3, 3),),
+    ((1, 2), (3, 2)) * 5 + ((1, 2), (2, 2)),
+    ((2, 1), (1, 2)) + ((3, 2), (1, 2)) * 4 + ((3, 2), (1, 3)),
+]
+GREATEST_PAIRS = [(19601, 27720), (13860, 33461), (27720, 19601)]
+
+# Nests in which the outermost buttons weigh 300 and 301.
+NEST_300 = nest_from(((2, 4), (2, 3), (2, 1), (3, 3), (2, 4), (1, 2), (3, 3)), range(20))
+NEST_301 = nest_from(((5, 4), (1, 1), (2, 1), (1, 1), (2, 1), (1, 4), (4, 4), (3, 4)), range(20))
+
+
+def some_nests():
+    """Nests of many buttons, told with other orders, trips of one part and trips cut in two, too."""
+    rng = random.Random(12)
+    found = [nest_from(shape, rng.sample(range(100), 24)) for shape in GREATEST_SHAPES]
+    found += [NEST_300, NEST_301, STAIRS, WELL, HALF, (1, tuple(range(24))), (24, tuple(range(24)))]
+    for _ in range(20):
+        shape = [(1, rng.randint(2, 4))]
+        while len(shape) < 12 and sum(many for _, many in shape) < 20:
+            shape.insert(0, (1, rng.randint(1, 4)))
+        shape = [(rng.randint(1, many + (place < len(shape) - 1)), many) for place, (_, many) in enumerate(shape)]
+        found.append(nest_from(shape, rng.sample(range(100), sum(many for _, many in shape))))
+    return found + [shuffled(rng, tree) for tree in found[:5]]
+
+
+def plain_scale_goes(scale, lot):
+    """Whether a lot goes on a scale."""
+    return sum(weight for button, weight in scale[0] if button in set(lot)) >= scale[1]
+
+
+def scale_buttons(scale):
+    return [button for button, _ in scale[0]]
+
+
+def plain_scale_lots(scale):
+    """All lots of the scale's buttons that go, while each lot that is left with a button less fails."""
+    return tuple([lot for lot in lots_of(scale_buttons(scale)) if plain_scale_goes(scale, lot) and not any(
+        plain_scale_goes(scale, lot[:place] + lot[place + 1:]) for place in range(len(lot)))])
+
+
+def all_scales(buttons, most):
+    """All scales of just these buttons with weights up to most."""
+    for weights in itertools.product(range(most + 1), repeat=len(buttons)):
+        for bound in range(1, sum(weights) + 1):
+            yield (tuple(zip(buttons, weights)), bound)
+
+
+def random_scale(rng, buttons, most):
+    """A scale of just these buttons with weights up to most."""
+    weights = [rng.choice([0, 1, most, rng.randint(0, most), rng.randint(0, most)]) for _ in buttons]
+    weights[0] = max(1, weights[0])
+    return (tuple(zip(sorted(buttons), weights)), rng.randint(1, sum(weights)))
+
+
+def _made_small_scales():
+    rng = random.Random(9)
+    found = []
+    for buttons in ((0,), (99,), (1, 2), (0, 5, 9)):
+        found.extend(all_scales(buttons, 3))
+    for size in (4, 4, 5, 5, 6):
+        found.extend(random_scale(rng, rng.sample(range(12), size), most) for most in (1, 2, 3, 4, 5, 7, 9, 99999) * 3)
+    return found
+
+
+SMALL_SCALES = _made_small_scales()

@@ -51,3 +51,9 @@ class Examples(Case):
 
     def test_lots(self):
         self.check_file("lots.txt", 55)
+
+    def test_nests(self):
+        self.check_file("nests.txt", 23)
+
+    def test_scales(self):
+        self.check_file("scales.txt", 21)
