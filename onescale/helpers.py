@@ -125,3 +125,30 @@ def pair_and_weights(shape):
 def weight_sum(rows):
     """The sum of all weights of the rows of a scale."""
     return sum([weight for _, weight in rows])
+
+
+# Tuples of places are told as masks: numbers with the bit of each place.
+
+def place_classes(masks, many):
+    """The lists of those places, from 0 to many - 1, that can be exchanged with one another without changing masks."""
+    known = {mask: True for mask in masks}
+    classes = []
+    for place in range(many):
+        fitting = [places for places in classes if _are_exchangeable(known, places[0], place)]
+        if fitting:
+            fitting[0].append(place)
+        else:
+            classes.append([place])
+    return classes
+
+
+def _are_exchangeable(known, one, other):
+    """Whether the masks stay the same when two places are exchanged in each of them."""
+    both = (1 << one) | (1 << other)
+    return not [mask for mask in known if (mask & both) not in (0, both) and (mask ^ both) not in known]
+
+
+def numbers_met(masks, places):
+    """The ascending numbers of these places that masks have, 0 left out."""
+    numbers = [len([place for place in places if (mask >> place) & 1]) for mask in masks]
+    return sorted(set([number for number in numbers if number > 0]))

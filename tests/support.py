@@ -314,3 +314,100 @@ def _made_small_scales():
 
 
 SMALL_SCALES = _made_small_scales()
+
+
+# Families of lots.
+
+def _rising(buttons):
+    """All sets of lots of the buttons that hold with each lot all lots around it, but not ()."""
+    if not buttons:
+        return [frozenset(), frozenset([()])]
+    inner = _rising(buttons[1:])
+    return [frozenset([(buttons[0],) + lot for lot in larger]) | smaller
+            for smaller in inner for larger in inner if smaller <= larger]
+
+
+def all_families(buttons):
+    """All families of lots of these buttons, perhaps of fewer."""
+    found = []
+    for going in _rising(tuple(buttons)):
+        if going and () not in going:
+            found.append(tuple(sorted(lot for lot in going if not any(
+                lot[:place] + lot[place + 1:] in going for place in range(len(lot))))))
+    return found
+
+
+def told_trees(buttons):
+    """All told trees with just these buttons, by set partitions."""
+    if len(buttons) == 1:
+        return [buttons[0]]
+    found = []
+    for pieces in set_partitions(buttons):
+        if len(pieces) == 1:
+            continue
+        for parts in itertools.product(*[told_trees(piece) for piece in pieces]):
+            for bound in range(1, len(parts) + 1):
+                kinds = ((bound == 1) * ["one-of"] + (bound == len(parts)) * ["all-of"])
+                inner = [kind_of_trip(part) for part in parts if isinstance(part, tuple)]
+                if not set(kinds) & set(inner):
+                    found.append((bound, parts))
+    return found
+
+
+def kind_of_trip(trip):
+    return "one-of" if trip[0] == 1 else "all-of" if trip[0] == len(trip[1]) else "some-of"
+
+
+def set_partitions(items):
+    """All ways to part a tuple, the pieces in the order of their first items."""
+    if not items:
+        return [()]
+    found = []
+    for size in range(len(items)):
+        for more in itertools.combinations(items[1:], size):
+            rest = tuple([item for item in items[1:] if item not in more])
+            found.extend(((items[0],) + more,) + others for others in set_partitions(rest))
+    return found
+
+
+# Shapes.
+
+def level_kind(shape, place):
+    """Whether a level is one-of, all-of or neither."""
+    k, s = shape[place]
+    if k == 1:
+        return "one-of"
+    return "all-of" if k == (s if place == len(shape) - 1 else s + 1) else "some-of"
+
+
+def all_shapes(n):
+    """All shapes with n buttons, by the words of H1."""
+    if n == 1:
+        return [((1, 1),)]
+    found = []
+    for many in range(1, n):
+        for pieces in compositions(tuple(range(n)), many):
+            sizes = [len(piece) for piece in pieces]
+            if sizes[-1] < 2:
+                continue
+            bounds = [range(1, size + 2) for size in sizes[:-1]] + [range(1, sizes[-1] + 1)]
+            for row in itertools.product(*bounds):
+                shape = tuple(zip(row, sizes))
+                kinds = [level_kind(shape, place) for place in range(many)]
+                if not any(one == other != "some-of" for one, other in zip(kinds, kinds[1:])):
+                    found.append(shape)
+    return sorted(found)
+
+
+def is_plain(shape):
+    return all(level_kind(shape, place) != "some-of" for place in range(len(shape)))
+
+
+def plain_pair(shape):
+    """By the words of E3 for levels (k, s): the pair, and the weights of the levels."""
+    k, s = shape[0]
+    if len(shape) == 1:
+        return (k, s - k + 1), (1,)
+    (a, b), weights = plain_pair(shape[1:])
+    v = max([a] * (s >= k) + [b] * (k >= 2))
+    return (a + (k - 1) * v, b + (s - k + 1) * v), (v,) + weights

@@ -32,24 +32,42 @@ DEFS = {
     "scalealike": {"scales_alike": ["one", "other"], "scale_parting": ["one", "other"]},
     "sums": {"sum_counts": ["scale"], "scale_going": ["scale"]},
     "scaletexts": {"scale_text": ["scale"], "read_scale": ["value"]},
+    "fromlots": {"lots_error": ["value"], "tree_of": ["lots"]},
+    "frompapers": {"tree_paper_holds": ["lots", "value"]},
+    "fromscales": {"nest_of": ["scale"], "lowered": ["scale"], "is_of_trips": ["scale"]},
+    "euclid": {"shape_of": ["tree"], "nest_by": ["shape", "buttons"], "pair_of": ["shape"], "shape_weights": ["shape"],
+               "contrary_shape": ["shape"], "greatest_weight": ["shape"], "greatest_needed": ["n"], "plain_of": ["a", "b"],
+               "quotients": ["a", "b"]},
+    "plainrows": {"plain_count": ["n"], "plain_at": ["n", "value"], "plain_number": ["shape"], "with_sum": ["total"]},
+    "shapes": {"tree_shapes": ["n"], "tree_count": ["n"]},
+    "nestshapes": {"nest_shapes": ["n"], "nest_count": ["n"], "nest_at": ["n", "value"], "nest_number": ["shape"],
+                   "own_contrary": ["n"]},
 }
 
 # What stands for an argument of this name; for value what the def expects there, or something wrong.
 TREES = [5, 1, 0, (2, (0, (1, (3, 4)), 7)), (1, ((2, (1, 0)), (2, (5, 3)))), (1, ((1, (1,)),)), STAIRS, WELL]
 SCALES = [(((5, 1),), 1), (((0, 2), (3, 1), (4, 1), (7, 2)), 3), (((0, 2), (1, 0)), 2), (((1, 99999), (3, 5)), 7),
-          (((0, 1), (1, 1), (3, 1), (5, 1)), 2), (tuple([(button, 83) for button in range(13)]), 500)]
+          (((0, 1), (1, 1), (3, 1), (5, 1)), 2), (tuple([(button, 83) for button in range(13)]), 500),
+          (((0, 3), (1, 2), (2, 2), (3, 1)), 5)]
+PLAIN_SHAPES = [((1, 1),), ((1, 2),), ((2, 1), (1, 2)), ((1, 3), (2, 1), (1, 2), (4, 4))]
+SHAPES = PLAIN_SHAPES + [((2, 3),), ((3, 3), (2, 2), (3, 4)), ((1, 1), (2, 2), (3, 3)), ((2, 12), (5, 12))]
+LOTS = [((5,),), ((0, 1), (0, 2), (1, 2)), ((0, 1), (1, 2), (2, 3)), ((0, 1, 5), (3,)), ((0, 1), (0, 2), (1, 2, 3), (1, 2, 4))]
 STANDING = {
     "tree": TREES, "one": TREES, "other": TREES[::-1], "lot": [(), (0, 3), (1, 5, 99), tuple(range(100))],
     "on": [(), (0,), (1, 50)], "off": [(), (3,), (4, 60)], "must": [(), (0,), (1, 50)], "never": [(), (3,), (0, 60)],
     "value": [0, 1, 2, True, False, None, (), (0,), (1,), (True,), (0, 3), [0, 3], {0: [1]}, "1[5]", "0 3",
               (1, (0, [1])), (1, (5,)), ((0, 1), (3, 5), 0, 3), ((0, 1), [3, 5], 0, 3), "1: 5=1", "3: 0=2 3=1 4=1 7=2",
-              SCALES[0], SCALES[1], list(SCALES[1]), (((5, 1),), True), (((5,), ()),), [((5,), ())]],
+              SCALES[0], SCALES[1], list(SCALES[1]), (((5, 1),), True), (((5,), ()),), [((5,), ())], ((5,),), [(5,)], ((0, 1), (1, 0)),
+              ((0,), (0, 1)), ("stuck", (0, 1, 2, 3)), ("stuck", (0, 1, 2, (1, (3, 4)))), ["stuck", (0, 1, 2, 3)]],
     "scale": SCALES, "rows": [scale[0] for scale in SCALES], "button": [0, 1, 3, 5],
+    "lots": LOTS, "shape": SHAPES, "buttons": [(5,), (0, 1), (3, 5, 8), tuple(range(10)), tuple(range(24)), tuple(range(25))],
+    "n": [1, 2, 3, 5, 24], "total": [1, 2, 6, 999], "a": [1, 2, 3, 9, 10 ** 9], "b": [1, 2, 5, 16, 10 ** 9],
 }
 
-# In ranks one and other are buttons, or any values; elsewhere scales.
+# In ranks one and other are buttons, or any values, in scalealike scales; in plainrows shapes are plain.
 ONES = [0, 1, 3, True, False, None, 5, [0], "0"]
-OTHER_ARGUMENTS = {"ranks": {"one": ONES, "other": ONES[::-1]}, "scalealike": {"one": SCALES, "other": SCALES[::-1]}}
+OTHER_ARGUMENTS = {"ranks": {"one": ONES, "other": ONES[::-1]}, "scalealike": {"one": SCALES, "other": SCALES[::-1]},
+                   "plainrows": {"shape": PLAIN_SHAPES}}
 
 
 def calls_of(module, name):
@@ -131,4 +149,4 @@ class Conventions(Case):
                     told = outcome(function, tree)
                     if told[0] == "raised":
                         self.assertIn((name, told[1]), (("least_lots", "TooMany"), ("levels", "NoNest"), ("pair", "NoNest"),
-                                                        ("scale_of", "NoNest")))
+                                                        ("scale_of", "NoNest"), ("shape_of", "NoNest")))

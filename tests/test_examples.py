@@ -28,6 +28,7 @@ def points_of(text):
 class Examples(Case):
 
     def check(self, names, call, told):
+        """told is what stands behind the call, None if the call tells nothing."""
         if told is None:
             exec(call, names)
         elif told.startswith("raises "):
@@ -57,3 +58,22 @@ class Examples(Case):
 
     def test_scales(self):
         self.check_file("scales.txt", 21)
+
+    def test_fromlots(self):
+        self.check_file("fromlots.txt", 14)
+
+    def test_euclid(self):
+        self.check_file("euclid.txt", 19)
+
+    def test_shapes(self):
+        self.check_file("shapes.txt", 9)
+
+    def test_readme(self):
+        lines = (FOLDER.parent.parent / "README.md").read_text().splitlines()
+        starts = [place for place, line in enumerate(lines) if line.startswith("    >>> ")]
+        names = {}
+        for place in starts:
+            told = lines[place + 1][4:]
+            with self.subTest(call=lines[place]):
+                self.check(names, lines[place][8:], None if told == "" or told.startswith(">>> ") else told)
+        self.assertEqual(len(starts), 10)

@@ -1,7 +1,7 @@
 """That the package keeps to its small part of Python: of the rules of LANGUAGE.md those that the text of a file shows.
 
 Where a rule lets more by than the package needs, the check is narrower than the rule: no generators and generator
-expressions, no sets but those that are sorted or counted on the spot, no try, no library modules, no keywords but key.
+expressions, no sets but those that are sorted or counted on the spot, no try, no library modules but some functions of math, no keywords but key.
 """
 
 import ast
@@ -25,6 +25,9 @@ BARRED = {"register", "mro", "elements", "open", "input", "law", "version_info",
           "eval", "exec", "exit", "globals", "locals", "vars", "dir", "id", "super", "getattr", "setattr", "hasattr",
           "compile", "help", "license", "copyright", "credits", "quit", "gc", "os", "sys", "importlib", "format"}
 ERROR_BASE = "ValueError"
+
+# They may be imported, and are only called, by their bare names, with all arguments by position.
+MATH = ("comb", "gcd")
 
 
 def files():
@@ -106,6 +109,8 @@ class Language(unittest.TestCase):
         for path, text, tree in self.each():
             self.assertFalse([node for node in ast.walk(tree) if isinstance(node, ast.Import)])
             rows = imports_of(tree)
+            self.check_math(tree, [name for module, name in rows if module == "math"])
+            rows = [row for row in rows if row[0] != "math"]
             wanted["onescale." + path.stem] = [module for module, _ in rows]
             for module, name in rows:
                 self.assertIn(name, defined[module])
@@ -120,6 +125,15 @@ class Language(unittest.TestCase):
             ready = [module for module in wanted if module not in done and all(name in done for name in wanted[module])]
             self.assertTrue(ready, "files import from each other")
             done.extend(ready)
+
+    def check_math(self, tree, names):
+        # L2
+        self.assertFalse([name for name in names if name not in MATH])
+        called = [node.func for node in ast.walk(tree) if isinstance(node, ast.Call) and not node.keywords
+                  and not [one for one in node.args if isinstance(one, ast.Starred)]]
+        used = [node for node in ast.walk(tree) if isinstance(node, ast.Name) and node.id in names]
+        self.assertFalse([node for node in used if node not in called])
+        self.assertEqual(sorted(set(node.id for node in used)), sorted(names))
 
     def test_statements_and_expressions(self):
         # L6, L7, L24
