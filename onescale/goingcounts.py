@@ -11,21 +11,21 @@ def going_count(tree, must, never):
     buttons = buttons_of(tree)
     if [button for button in must if button not in buttons]:
         return 0
-    return _going_pair(tree, must, never, 1)[0]
+    return going_pair(tree, must, never, 1)[0]
 
 
 def going_sizes(tree):
     """Item i: how many lots of i buttons of the tree go."""
-    return tuple(by_size(_going_pair(tree, (), (), SIZE_BASE)[0]))
+    return tuple(by_size(going_pair(tree, (), (), SIZE_BASE)[0]))
 
 
-def _going_pair(thing, must, never, weight):
+def going_pair(thing, must, never, weight):
     """The numbers of lots of a thing's buttons with which it goes, and fails, that must and never let by;
     each lot counts as the weights of its buttons multiplied."""
     if not is_trip(thing):
         return button_pair(thing, must, never, weight)
     bound, parts = thing
-    sums = tally([_going_pair(part, must, never, weight) for part in parts])
+    sums = tally([going_pair(part, must, never, weight) for part in parts])
     return (sum(sums[bound:]), sum(sums[:bound]))
 
 

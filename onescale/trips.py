@@ -7,46 +7,53 @@ from onescale.helpers import is_button, is_integer, is_trip
 
 def tree_error(value):
     """None for a tree, otherwise the least way to a fault with its word, or "many"."""
+    return error_in(value, False)
+
+
+def error_in(value, lets_gaps):
+    """What tree_error tells of a value; where gaps are let, None may stand in it for bounds."""
     seen = {}
-    fault = _first_fault(value, (), seen)
+    fault = _first_fault(value, (), seen, lets_gaps)
     if fault is None and len(seen) > MAX_BUTTONS:
         return "many"
     return fault
 
 
-def _first_fault(thing, way, seen):
+def _first_fault(thing, way, seen, lets_gaps):
     """The pair of the least way from thing on to a fault and its word; seen gets the buttons."""
-    word = _fault_word(thing, way, seen)
+    word = _fault_word(thing, way, seen, lets_gaps)
     if word is not None:
         return (way, word)
     if is_integer(thing):
         seen[thing] = True
         return None
     for place, part in enumerate(thing[1]):
-        fault = _first_fault(part, way + (place,), seen)
+        fault = _first_fault(part, way + (place,), seen, lets_gaps)
         if fault is not None:
             return fault
     return None
 
 
-def _fault_word(thing, way, seen):
+def _fault_word(thing, way, seen, lets_gaps):
     """The first word that applies to thing itself, None if there is none."""
     if len(way) > MAX_DEPTH:
         return "deep"
     if is_button(thing):
         return "twice" if thing in seen else None
-    if not _has_trip_form(thing):
+    if not _has_trip_form(thing, lets_gaps):
         return "form"
     bound, parts = thing
-    return None if 1 <= bound <= len(parts) else "bound"
+    return None if bound is None or 1 <= bound <= len(parts) else "bound"
 
 
-def _has_trip_form(value):
-    """Whether value is a pair of an integer and a tuple of 1 to MAX_BUTTONS items."""
+def _has_trip_form(value, lets_gaps):
+    """Whether value is a pair of an integer, or None where gaps are let, and a tuple of 1 to MAX_BUTTONS items."""
     if not isinstance(value, tuple) or len(value) != 2:
         return False
     bound, parts = value
-    return is_integer(bound) and isinstance(parts, tuple) and 1 <= len(parts) <= MAX_BUTTONS
+    if not is_integer(bound) and not (lets_gaps and bound is None):
+        return False
+    return isinstance(parts, tuple) and 1 <= len(parts) <= MAX_BUTTONS
 
 
 def buttons_of(tree):

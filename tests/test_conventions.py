@@ -42,6 +42,17 @@ DEFS = {
     "shapes": {"tree_shapes": ["n"], "tree_count": ["n"]},
     "nestshapes": {"nest_shapes": ["n"], "nest_count": ["n"], "nest_at": ["n", "value"], "nest_number": ["shape"],
                    "own_contrary": ["n"]},
+    "turns": {"turn_count": ["tree", "value"], "turn_sizes": ["tree", "value"], "order_share": ["tree", "value"],
+              "shares": ["tree"]},
+    "looks": {"settled": ["tree", "on", "off"], "shown": ["tree", "lot"], "shown_size": ["tree", "lot"],
+              "shown_count": ["tree", "lot"], "shown_holds": ["tree", "lot", "value"]},
+    "foes": {"foe": ["tree", "on", "off", "value"], "asked_out": ["tree", "buttons"]},
+    "frames": {"frame_error": ["value"], "gaps": ["frame"], "filled": ["frame", "bounds"], "book_error": ["value"]},
+    "fillings": {"fillings_left": ["frame", "book"], "any_filling": ["frame", "book"], "bounds_left": ["frame", "book"],
+                 "read_lot_by": ["frame", "book", "lot"]},
+    "fillpapers": {"filling_paper_holds": ["frame", "book", "value"]},
+    "deeds": {"put": ["tree", "way", "button"], "taken_out": ["tree", "button"], "bounded": ["tree", "way", "k"],
+              "dissolved": ["tree", "way"], "as_one": ["tree", "way", "button"], "exchanged": ["tree", "one", "other"]},
 }
 
 # What stands for an argument of this name; for value what the def expects there, or something wrong.
@@ -58,16 +69,24 @@ STANDING = {
     "value": [0, 1, 2, True, False, None, (), (0,), (1,), (True,), (0, 3), [0, 3], {0: [1]}, "1[5]", "0 3",
               (1, (0, [1])), (1, (5,)), ((0, 1), (3, 5), 0, 3), ((0, 1), [3, 5], 0, 3), "1: 5=1", "3: 0=2 3=1 4=1 7=2",
               SCALES[0], SCALES[1], list(SCALES[1]), (((5, 1),), True), (((5,), ()),), [((5,), ())], ((5,),), [(5,)], ((0, 1), (1, 0)),
-              ((0,), (0, 1)), ("stuck", (0, 1, 2, 3)), ("stuck", (0, 1, 2, (1, (3, 4)))), ["stuck", (0, 1, 2, 3)]],
+              ((0,), (0, 1)), ("stuck", (0, 1, 2, 3)), ("stuck", (0, 1, 2, (1, (3, 4)))), ["stuck", (0, 1, 2, 3)],
+              (None, (0, 1)), (((0,), True),), [((0,), True)], ("clashes", (0,)), ("clashes", (1, 1, 0, 0, 0, 0)),
+              ("clashes", [0])],
     "scale": SCALES, "rows": [scale[0] for scale in SCALES], "button": [0, 1, 3, 5],
     "lots": LOTS, "shape": SHAPES, "buttons": [(5,), (0, 1), (3, 5, 8), tuple(range(10)), tuple(range(24)), tuple(range(25))],
     "n": [1, 2, 3, 5, 24], "total": [1, 2, 6, 999], "a": [1, 2, 3, 9, 10 ** 9], "b": [1, 2, 5, 16, 10 ** 9],
+    "frame": [5, (2, (0, 1)), (None, (0, (None, (3, 4)), 7)), (None, (0, 1)),
+              (None, tuple([(None, (2 * k, 2 * k + 1)) for k in range(12)]))],
+    "book": [(), (((0, 3), True), ((3, 4), False)), (((), True),), (((0,), True), ((0, 3, 4), False)), (((5,), False),) * 12],
+    "bounds": [(), (1,), (2, 1), (True, 1), (2, 3), (None,), ([1],)],
+    "way": [(), (0,), (1,), (1, 0), (True,), [1], None], "k": [1, 2, 3, 0, True, None, [1]],
 }
 
-# In ranks one and other are buttons, or any values, in scalealike scales; in plainrows shapes are plain.
+# In ranks and in deeds one, other and button are buttons, or any values; in scalealike one and other are scales; in
+# plainrows shapes are plain.
 ONES = [0, 1, 3, True, False, None, 5, [0], "0"]
 OTHER_ARGUMENTS = {"ranks": {"one": ONES, "other": ONES[::-1]}, "scalealike": {"one": SCALES, "other": SCALES[::-1]},
-                   "plainrows": {"shape": PLAIN_SHAPES}}
+                   "plainrows": {"shape": PLAIN_SHAPES}, "deeds": {"one": ONES, "other": ONES[::-1], "button": ONES + [77]}}
 
 
 def calls_of(module, name):
@@ -76,8 +95,8 @@ def calls_of(module, name):
     for argument in DEFS[module][name]:
         standing = OTHER_ARGUMENTS.get(module, {}).get(argument, STANDING[argument])
         rows = [dict(row, **{argument: value}) for row in rows for value in standing]
-    # What is called button is one of the tree.
-    return [row for row in rows if "button" not in row or row["button"] in leaves(row["tree"])]
+    # Where a button is no value it is one of the tree.
+    return [row for row in rows if module != "leastness" or "button" not in row or row["button"] in leaves(row["tree"])]
 
 
 def outcome(function, *args, **more):

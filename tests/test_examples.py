@@ -68,6 +68,18 @@ class Examples(Case):
     def test_shapes(self):
         self.check_file("shapes.txt", 9)
 
+    def test_turns(self):
+        self.check_file("turns.txt", 10)
+
+    def test_looks(self):
+        self.check_file("looks.txt", 16)
+
+    def test_frames(self):
+        self.check_file("frames.txt", 20)
+
+    def test_deeds(self):
+        self.check_file("deeds.txt", 19)
+
     def test_readme(self):
         lines = (FOLDER.parent.parent / "README.md").read_text().splitlines()
         starts = [place for place, line in enumerate(lines) if line.startswith("    >>> ")]

@@ -18,7 +18,7 @@ EXPRESSIONS = (ast.BoolOp, ast.BinOp, ast.UnaryOp, ast.IfExp, ast.Dict, ast.List
                ast.Constant, ast.Attribute, ast.Subscript, ast.Starred, ast.Name, ast.List, ast.Tuple, ast.Slice)
 BUILTINS = {"len", "range", "enumerate", "zip", "min", "max", "sum", "abs", "sorted", "int", "str", "bool", "list",
             "tuple", "dict", "set", "isinstance", "any", "all", "divmod", "ValueError"}
-METHODS = {"append", "count", "extend", "find", "get", "index", "items", "join", "partition", "pop", "split", "startswith",
+METHODS = {"append", "bit_length", "count", "extend", "find", "get", "index", "items", "join", "partition", "pop", "split", "startswith",
            "endswith", "strip", "isdigit", "keys", "values"}
 BARRED = {"register", "mro", "elements", "open", "input", "law", "version_info", "with_traceback", "add_note", "type",
           "typing", "enum", "Enum", "namedtuple", "Protocol", "Generic", "dataclass", "overload", "contextmanager",
@@ -27,7 +27,7 @@ BARRED = {"register", "mro", "elements", "open", "input", "law", "version_info",
 ERROR_BASE = "ValueError"
 
 # They may be imported, and are only called, by their bare names, with all arguments by position.
-MATH = ("comb", "gcd")
+MATH = ("comb", "factorial", "gcd")
 
 
 def files():
