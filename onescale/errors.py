@@ -4,6 +4,10 @@
 class TripError(ValueError):
     """Something that was asked for can not be done."""
 
+    def kind(self):
+        """The name of the class of the error."""
+        return self.__class__.__name__
+
 
 class BadTree(TripError):
     """What should be a tree is none."""

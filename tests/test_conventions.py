@@ -4,6 +4,7 @@ import copy
 import importlib
 import inspect
 
+from onescale.boards import Board
 from tests.support import HALF, SMALL_TREES, STAIRS, WELL, Case, large_trees, leaves
 
 # Of each module its defs with the names of their arguments.
@@ -53,6 +54,21 @@ DEFS = {
     "fillpapers": {"filling_paper_holds": ["frame", "book", "value"]},
     "deeds": {"put": ["tree", "way", "button"], "taken_out": ["tree", "button"], "bounded": ["tree", "way", "k"],
               "dissolved": ["tree", "way"], "as_one": ["tree", "way", "button"], "exchanged": ["tree", "one", "other"]},
+    "effects": {"gained": ["one", "other"]},
+    "hands": {"fewest_lost": ["tree"], "hands_hold": ["tree", "value"]},
+    "runs": {"run": ["tree", "events"], "changes": ["tree", "events"], "run_scale": ["scale", "events"],
+             "fewest_presses": ["tree", "lot"], "fewest_lets": ["tree", "lot"]},
+    "logs": {"log_text": ["edits"], "read_log": ["value"], "board_behind": ["edits"]},
+}
+
+# Of each class its methods with the names of their arguments, and what can be read off its objects.
+CLASSES = {
+    "watches": ("Watch", {"__init__": ["tree"], "press": ["button"], "let": ["button"], "__len__": []}, ["goes", "pressed", "touched"]),
+    "boards": ("Board", {
+        "__init__": [], "keep": ["name", "rule"], "drop": ["name"], "deed": ["name", "word", "items"], "pack": ["name", "other"],
+        "unpack": ["name", "other"], "batch": ["edits"], "tells": ["name", "lot"], "same": ["name", "other"], "undo": [], "redo": [],
+        "at": ["version"], "copy": [], "attempt": ["work"], "__len__": []}, ["table", "version", "log", "made"]),
+    "shells": ("Shell", {"__init__": [], "say": ["line"]}, []),
 }
 
 # What stands for an argument of this name; for value what the def expects there, or something wrong.
@@ -71,7 +87,7 @@ STANDING = {
               SCALES[0], SCALES[1], list(SCALES[1]), (((5, 1),), True), (((5,), ()),), [((5,), ())], ((5,),), [(5,)], ((0, 1), (1, 0)),
               ((0,), (0, 1)), ("stuck", (0, 1, 2, 3)), ("stuck", (0, 1, 2, (1, (3, 4)))), ["stuck", (0, 1, 2, 3)],
               (None, (0, 1)), (((0,), True),), [((0,), True)], ("clashes", (0,)), ("clashes", (1, 1, 0, 0, 0, 0)),
-              ("clashes", [0])],
+              ("clashes", [0]), (0, ()), (False, ()), [0, ()], (1, ((0,),)), (1, ((1,),)), (True, ((0,),)), "(drop,a)\n", "(drop,a\n"],
     "scale": SCALES, "rows": [scale[0] for scale in SCALES], "button": [0, 1, 3, 5],
     "lots": LOTS, "shape": SHAPES, "buttons": [(5,), (0, 1), (3, 5, 8), tuple(range(10)), tuple(range(24)), tuple(range(25))],
     "n": [1, 2, 3, 5, 24], "total": [1, 2, 6, 999], "a": [1, 2, 3, 9, 10 ** 9], "b": [1, 2, 5, 16, 10 ** 9],
@@ -80,6 +96,10 @@ STANDING = {
     "book": [(), (((0, 3), True), ((3, 4), False)), (((), True),), (((0,), True), ((0, 3, 4), False)), (((5,), False),) * 12],
     "bounds": [(), (1,), (2, 1), (True, 1), (2, 3), (None,), ([1],)],
     "way": [(), (0,), (1,), (1, 0), (True,), [1], None], "k": [1, 2, 3, 0, True, None, [1]],
+    "events": [(), (("press", 5),), (("press", 0), ("press", 3), ("let", 0), ("press", 1), ("press", 7)),
+               (("press", 1), ("let", 1)) * 50],
+    "edits": [(), (("keep", "a", TREES[3]), ("pack", "a", "b"), ("unpack", "b", "a")), (("batch", (("keep", "a", 5),) * 12),),
+              (("drop", "a"),), (("keep", "a", SCALES[1]), ("deed", "a", "put", ((1, 0), 5)))],
 }
 
 # In ranks and in deeds one, other and button are buttons, or any values; in scalealike one and other are scales; in
@@ -156,6 +176,8 @@ class Conventions(Case):
                     self.check_kinds(told[1], name)
 
     def check_kinds(self, value, name):
+        if name == "board_behind":
+            return self.assertIs(type(value), Board)
         self.assertIn(type(value).__name__, ("tuple", "int", "bool", "str", "NoneType"), name)
         if isinstance(value, tuple):
             for item in value:
@@ -169,3 +191,41 @@ class Conventions(Case):
                     if told[0] == "raised":
                         self.assertIn((name, told[1]), (("least_lots", "TooMany"), ("levels", "NoNest"), ("pair", "NoNest"),
                                                         ("scale_of", "NoNest"), ("shape_of", "NoNest")))
+
+
+class Classes(Case):
+
+    def classes(self):
+        for module, (name, methods, readable) in CLASSES.items():
+            yield module, getattr(importlib.import_module("onescale." + module), name), methods, readable
+
+    def test_defined_where_they_are_listed(self):
+        for module, found, methods, readable in self.classes():
+            self.assertTrue(inspect.isclass(found))
+            self.assertEqual([found.__module__, found.__name__], ["onescale." + module, CLASSES[module][0]])
+            for name in list(methods) + readable:
+                self.assertIn(name, vars(found))
+
+    def test_names_of_arguments(self):
+        for _, found, methods, _ in self.classes():
+            for name, arguments in methods.items():
+                self.assertEqual(list(inspect.signature(vars(found)[name]).parameters)[1:], arguments, name)
+
+    def test_what_can_be_read_is_there_at_once(self):
+        for _, found, methods, readable in self.classes():
+            made = found(*[5 for _ in methods["__init__"]])
+            for name in readable:
+                self.assertTrue(hasattr(made, name))
+                with self.assertRaises(AttributeError):
+                    setattr(made, name, getattr(made, name))
+
+    def test_first_argument_is_told_by_name_too(self):
+        for _, found, methods, _ in self.classes():
+            for name, arguments in methods.items():
+                made = found(*[5 for _ in methods["__init__"]])
+                other = found(*[5 for _ in methods["__init__"]])
+                if name in ("__init__", "attempt"):
+                    continue
+                for value in STANDING["value"][:10]:
+                    by_name = {argument: value for argument in arguments}
+                    self.assertExact(outcome(getattr(made, name), **by_name), outcome(getattr(other, name), *by_name.values()))

@@ -80,6 +80,12 @@ class Examples(Case):
     def test_deeds(self):
         self.check_file("deeds.txt", 19)
 
+    def test_effects(self):
+        self.check_file("effects.txt", 12)
+
+    def test_boards(self):
+        self.check_file("boards.txt", 30)
+
     def test_readme(self):
         lines = (FOLDER.parent.parent / "README.md").read_text().splitlines()
         starts = [place for place, line in enumerate(lines) if line.startswith("    >>> ")]
@@ -88,4 +94,4 @@ class Examples(Case):
             told = lines[place + 1][4:]
             with self.subTest(call=lines[place]):
                 self.check(names, lines[place][8:], None if told == "" or told.startswith(">>> ") else told)
-        self.assertEqual(len(starts), 10)
+        self.assertEqual(len(starts), 20)

@@ -1,7 +1,8 @@
 """That the package keeps to its small part of Python: of the rules of LANGUAGE.md those that the text of a file shows.
 
 Where a rule lets more by than the package needs, the check is narrower than the rule: no generators and generator
-expressions, no sets but those that are sorted or counted on the spot, no try, no library modules but some functions of math, no keywords but key.
+expressions, no sets but those that are sorted or counted on the spot, no try but for errors of the package, no library
+modules but some functions of math, no keywords but key, no operators but those of READING, no bases but of errors.
 """
 
 import ast
@@ -13,7 +14,7 @@ import unittest
 PACKAGE = pathlib.Path(__file__).parent.parent / "onescale"
 
 STATEMENTS = (ast.Assign, ast.AugAssign, ast.If, ast.While, ast.For, ast.Return, ast.Break, ast.Continue, ast.Pass,
-              ast.Raise, ast.Expr, ast.FunctionDef)
+              ast.Raise, ast.Expr, ast.FunctionDef, ast.Try)
 EXPRESSIONS = (ast.BoolOp, ast.BinOp, ast.UnaryOp, ast.IfExp, ast.Dict, ast.ListComp, ast.DictComp, ast.Compare, ast.Call,
                ast.Constant, ast.Attribute, ast.Subscript, ast.Starred, ast.Name, ast.List, ast.Tuple, ast.Slice)
 BUILTINS = {"len", "range", "enumerate", "zip", "min", "max", "sum", "abs", "sorted", "int", "str", "bool", "list",
@@ -26,6 +27,13 @@ BARRED = {"register", "mro", "elements", "open", "input", "law", "version_info",
           "compile", "help", "license", "copyright", "credits", "quit", "gc", "os", "sys", "importlib", "format"}
 ERROR_BASE = "ValueError"
 
+# The methods with two underscores that the package has; all but __init__ only read.
+READING = ("__len__", "__contains__", "__getitem__", "__iter__", "__eq__")
+
+# What no attribute and no method may be called, as values of Python's own have it, or as callers would mistake it.
+TAKEN = {"items", "keys", "values", "pop", "update", "append", "clear", "extend", "insert", "remove", "reverse", "setdefault",
+         "sort", "args", "encode", "decode", "hex", "fromhex", "format"}
+
 # They may be imported, and are only called, by their bare names, with all arguments by position.
 MATH = ("comb", "factorial", "gcd")
 
@@ -36,7 +44,7 @@ def files():
 
 
 def bound_names(tree):
-    """The names of parameters, variables, functions, classes and imports in a part of a file."""
+    """The names of parameters, variables, functions, classes, imports and caught errors in a part of a file."""
     found = []
     for node in ast.walk(tree):
         if isinstance(node, ast.Name) and isinstance(node.ctx, (ast.Store, ast.Del)):
@@ -47,7 +55,14 @@ def bound_names(tree):
             found.append(node.name)
         elif isinstance(node, ast.alias):
             found.append(node.asname or node.name)
+        elif isinstance(node, ast.ExceptHandler) and node.name:
+            found.append(node.name)
     return found
+
+
+def methods_of(found):
+    """The methods of a class."""
+    return [node for node in found.body if isinstance(node, ast.FunctionDef)]
 
 
 def imports_of(tree):
@@ -90,7 +105,7 @@ class Language(unittest.TestCase):
                     self.assertTrue(place == 0 and isinstance(node.value, ast.Constant))
                 elif isinstance(node, ast.Assign):
                     self.assertTrue(len(node.targets) == 1 and isinstance(node.targets[0], ast.Name))
-                    self.assertIsInstance(node.value, ast.Constant)
+                    self.assertIsInstance(ast.literal_eval(node.value), (int, str, dict))
                     names.append(node.targets[0].id)
                 elif isinstance(node, ast.ImportFrom):
                     names.extend(alias.name for alias in node.names)
@@ -139,7 +154,7 @@ class Language(unittest.TestCase):
         # L6, L7, L24
         for path, _, tree in self.each():
             for function in [node for node in ast.walk(tree) if isinstance(node, ast.FunctionDef)]:
-                self.assertFalse(function.decorator_list)
+                self.assertIn([ast.unparse(node) for node in function.decorator_list], ([], ["property"]))
                 for node in ast.walk(function):
                     if isinstance(node, ast.stmt):
                         self.assertIsInstance(node, STATEMENTS)
@@ -180,26 +195,27 @@ class Language(unittest.TestCase):
 
     def test_calls(self):
         # L8, L22, L25
+        methods = METHODS | {method.name for _, _, found in self.classes() for method in methods_of(found)}
         for path, _, tree in self.each():
             own = bound_names(tree)
             for node in ast.walk(tree):
                 if isinstance(node, ast.Name) and node.id not in own:
-                    self.assertIn(node.id, BUILTINS)
+                    self.assertIn(node.id, BUILTINS | {"property", "iter"})
                 if isinstance(node, ast.Call):
                     self.assertIsInstance(node.func, (ast.Name, ast.Attribute))
                     if isinstance(node.func, ast.Attribute) and node.func.attr != "__init__":
-                        self.assertIn(node.func.attr, METHODS)
+                        self.assertIn(node.func.attr, methods)
                     for keyword in node.keywords:
                         self.assertIn(keyword.arg, ("key",))
                     if isinstance(node.func, ast.Name) and node.func.id == "isinstance":
-                        self.assertIn(ast.unparse(node.args[1]), ("int", "str", "bool", "list", "tuple", "dict"))
+                        self.assertIn(ast.unparse(node.args[1]), ("int", "str", "bool", "list", "tuple", "dict", "Board"))
 
     def test_names(self):
         # L8, L12, L15, L17
         for path, text, tree in self.each():
             imported = [name for _, name in imports_of(tree)]
             for name in bound_names(tree):
-                self.assertRegex(name, "^(_|_?[A-Za-z][A-Za-z0-9_]*|__init__)$")
+                self.assertTrue(re.match("^(_|_?[A-Za-z][A-Za-z0-9_]*|__init__)$", name) or name in READING, name)
                 self.assertNotIn(name, dir(builtins))
                 self.assertNotIn(name, BARRED)
             for node in ast.walk(tree):
@@ -231,16 +247,81 @@ class Language(unittest.TestCase):
 
     def test_errors(self):
         # L18, L19, L28
+        own = [found.name for path, _, found in self.classes() if path.name == "errors.py"]
+        for path, _, tree in self.each():
+            handlers = [node for node in ast.walk(tree) if isinstance(node, ast.ExceptHandler)]
+            bare = [node for handler in handlers for node in ast.walk(handler) if isinstance(node, ast.Raise) and node.exc is None]
+            for node in ast.walk(tree):
+                if isinstance(node, ast.Raise) and node not in bare:
+                    self.assertIsInstance(node.exc, ast.Call)
+                    self.assertIn(node.exc.func.id, own)
+                    self.assertIsNone(node.cause)
+                if isinstance(node, ast.Try):
+                    self.assertFalse(node.orelse or node.finalbody)
+            for handler in handlers:
+                self.assertIn(ast.unparse(handler.type), own)
+                # What is caught is only asked for its own.
+                uses = [node for node in ast.walk(handler) if isinstance(node, ast.Name) and node.id == handler.name]
+                asked = [node.value for node in ast.walk(handler) if isinstance(node, ast.Attribute) and node.attr == "kind"]
+                self.assertFalse([node for node in uses if node not in asked])
+
+    def classes(self):
+        for path, text, tree in self.each():
+            for node in tree.body:
+                if isinstance(node, ast.ClassDef):
+                    yield path, text, node
+
+    def test_classes(self):
+        # L5, L18
+        for path, _, found in self.classes():
+            self.assertFalse(found.decorator_list or found.keywords)
+            wanted = [ERROR_BASE if found.name == "TripError" else "TripError"] if path.name == "errors.py" else []
+            self.assertEqual([base.id for base in found.bases], wanted)
+            methods = [method.name for method in methods_of(found)]
+            self.assertEqual(len(methods), len(set(methods)))
+            self.assertFalse([node for node in found.body if not isinstance(node, (ast.FunctionDef, ast.Expr))])
+            self.assertTrue("__getitem__" not in methods or "__iter__" in methods)
+            self.assertTrue("__iter__" not in methods or "return iter(self." in ast.unparse(found))
+
+    def test_what_only_reads(self):
+        # L5, L28: properties and operators are made of conditions, returns and errors.
+        properties = []
+        for _, _, found in self.classes():
+            for method in methods_of(found):
+                if method.decorator_list:
+                    properties.append(method.name)
+                if method.decorator_list or method.name in READING:
+                    for node in ast.walk(ast.Module(method.body, [])):
+                        if isinstance(node, ast.stmt):
+                            self.assertTrue(isinstance(node, (ast.Return, ast.If, ast.Raise))
+                                            or isinstance(node, ast.Expr) and isinstance(node.value, ast.Constant), method.name)
+                        if isinstance(node, ast.Call):
+                            self.assertIn(ast.unparse(node.func), ("len", "iter", "isinstance", "tuple", "rule_at", "is_integer",
+                                                                  "self._now.items"))
+                if method.name == "__len__":
+                    self.assertRegex(ast.unparse(method.body[-1]), "^return len[(]self[.]_[a-z]+[)]$")
+        plain = [method.name for _, _, found in self.classes() for method in methods_of(found) if not method.decorator_list]
+        self.assertFalse([name for name in properties if name in plain or name in METHODS | TAKEN])
+
+    def test_attributes(self):
+        # L8, L18, L26
+        stored, methods = [], []
+        for _, _, found in self.classes():
+            own = [node.attr for node in ast.walk(found) if isinstance(node, ast.Attribute) and isinstance(node.ctx, ast.Store)]
+            self.assertFalse([method.name for method in methods_of(found) if method.name in own])
+            stored.extend(own)
+            methods.extend(method.name for method in methods_of(found))
+        self.assertFalse([name for name in stored if name in methods or name in TAKEN])
+        self.assertFalse([name for name in methods if name in TAKEN])
         for path, _, tree in self.each():
             for node in ast.walk(tree):
-                if isinstance(node, ast.Raise):
-                    self.assertIsInstance(node.exc, ast.Call)
-                    self.assertIsNone(node.cause)
-                if isinstance(node, ast.ClassDef):
-                    self.assertEqual(path.name, "errors.py")
-                    self.assertEqual([base.id for base in node.bases],
-                                     [ERROR_BASE if node.name == "TripError" else "TripError"])
-                    self.assertFalse(node.decorator_list or node.keywords)
+                if isinstance(node, ast.Attribute):
+                    self.assertIn(node.attr, stored + methods + list(METHODS) + ["__class__", "__name__"])
+                    self.assertTrue(node.attr != "__class__" or ast.unparse(node) == "self.__class__")
+                    self.assertTrue(node.attr != "__name__" or ast.unparse(node) == "self.__class__.__name__")
+                    if isinstance(node.ctx, ast.Store):
+                        self.assertIsInstance(node.value, ast.Name)
+                        self.assertTrue(node.value.id == node.value.id.lower())
 
     def test_no_annotations(self):
         # L21
