@@ -76,12 +76,17 @@ def tally(rows):
     the first numbers of these rows and the second numbers of all others."""
     sums = [1]
     for first, second in rows:
-        longer = [0] * (len(sums) + 1)
-        for chosen, total in enumerate(sums):
-            longer[chosen] += total * second
-            longer[chosen + 1] += total * first
-        sums = longer
+        sums = _with_pair(sums, first, second)
     return sums
+
+
+def _with_pair(sums, first, second):
+    """What tally tells when one more row is put to those of these sums."""
+    longer = [0] * (len(sums) + 1)
+    for chosen, total in enumerate(sums):
+        longer[chosen] += total * second
+        longer[chosen + 1] += total * first
+    return longer
 
 
 # A number can tell how many lots of each size there are: as figures to this base, that of the size 0 last.

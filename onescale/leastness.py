@@ -42,18 +42,24 @@ def _papers(rows):
     # Lots of what is within with such sums, the second being the first without one button of the weight 1.
     going, failing = inside[:bound], inside[:bound - 1]
     for bound, buttons in rows[:-1][::-1]:
-        level_papers = {}
-        for button in buttons:
-            others = without_button(buttons, button)
-            by_going = _by_going(bound, button, others, failing, papers)
-            by_failing = _by_failing(bound, button, others, going, papers)
-            level_papers[button] = by_going if len(by_going) >= len(by_failing) else by_failing
+        papers = _papers_around(bound, buttons, going, failing, papers)
         own = buttons[:bound - 1]
-        for button in papers:
-            level_papers[button] = [(own + one, own + other) for one, other in papers[button]]
-        papers = level_papers
         going, failing = own + going, own + failing
     return papers
+
+
+def _papers_around(bound, buttons, going, failing, within):
+    """What _papers tells with one more level around what is within, of which the papers and both lots are known."""
+    found = {}
+    for button in buttons:
+        others = without_button(buttons, button)
+        by_going = _by_going(bound, button, others, failing, within)
+        by_failing = _by_failing(bound, button, others, going, within)
+        found[button] = by_going if len(by_going) >= len(by_failing) else by_failing
+    own = buttons[:bound - 1]
+    for button in within:
+        found[button] = [(own + one, own + other) for one, other in within[button]]
+    return found
 
 
 def _by_going(bound, button, others, failing, papers):

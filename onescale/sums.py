@@ -12,11 +12,16 @@ def sum_counts(scale):
         raise TooMany(MAX_SUM)
     counts = {0: 1}
     for _, weight in rows:
-        longer = dict(counts)
-        for total, number in counts.items():
-            longer[total + weight] = longer.get(total + weight, 0) + number
-        counts = longer
+        counts = _with_weight(counts, weight)
     return tuple(sorted(counts.items()))
+
+
+def _with_weight(counts, weight):
+    """For each sum how many lots have it when a further button of this weight is put to each lot or is not."""
+    found = dict(counts)
+    for total, number in counts.items():
+        found[total + weight] = found.get(total + weight, 0) + number
+    return found
 
 
 def scale_going(scale):

@@ -37,6 +37,9 @@ TAKEN = {"items", "keys", "values", "pop", "update", "append", "clear", "extend"
 # They may be imported, and are only called, by their bare names, with all arguments by position.
 MATH = ("comb", "factorial", "gcd")
 
+# The methods that change a list or a dict.
+CHANGING = ("append", "extend", "insert", "pop", "remove", "clear", "reverse", "sort", "setdefault", "update")
+
 
 def files():
     """The pairs of a file of the package and of its text."""
@@ -68,6 +71,83 @@ def methods_of(found):
 def imports_of(tree):
     """The pairs of a module and of a name that a file imports from it."""
     return [(node.module, alias.name) for node in tree.body if isinstance(node, ast.ImportFrom) for alias in node.names]
+
+
+def things_of(node):
+    """The names and attributes that may be, or may have among their items, the very thing that an expression gives."""
+    if isinstance(node, ast.Subscript):
+        return [] if isinstance(node.slice, ast.Slice) else things_of(node.value)
+    if isinstance(node, ast.IfExp):
+        return things_of(node.body) + things_of(node.orelse)
+    if isinstance(node, ast.BoolOp):
+        return [name for value in node.values for name in things_of(value)]
+    # An attribute of this name of whatever object.
+    if isinstance(node, ast.Attribute):
+        return ["." + node.attr]
+    return [node.id] if isinstance(node, ast.Name) else []
+
+
+def walked_in(node):
+    """The names and attributes over which a loop goes that is told to go over an expression."""
+    if not isinstance(node, ast.Call):
+        return things_of(node)
+    if isinstance(node.func, ast.Attribute) and node.func.attr in ("items", "keys", "values"):
+        return things_of(node.func.value)
+    if isinstance(node.func, ast.Name) and node.func.id in ("enumerate", "zip", "reversed"):
+        return [name for one in node.args for name in walked_in(one)]
+    return []
+
+
+def changed_by(node):
+    """The names and attributes that a part of a function changes itself; to give a name anew changes nothing."""
+    if isinstance(node, ast.Call) and isinstance(node.func, ast.Attribute) and node.func.attr in CHANGING:
+        return things_of(node.func.value)
+    if isinstance(node, ast.AugAssign):
+        return things_of(node.target)
+    if isinstance(node, (ast.Subscript, ast.Attribute)) and isinstance(node.ctx, (ast.Store, ast.Del)):
+        return things_of(node.value if isinstance(node, ast.Subscript) else node)
+    return []
+
+
+def given_by(target, value):
+    """The lists of names and attributes that an assignment gives to one thing."""
+    if isinstance(target, ast.Tuple) and isinstance(value, ast.Tuple) and len(target.elts) == len(value.elts):
+        return [names for pair in zip(target.elts, value.elts) for names in given_by(*pair)]
+    if isinstance(target, ast.Tuple):
+        return [names for one in target.elts for names in given_by(one, value)]
+    return [things_of(target) + things_of(value)]
+
+
+def names_alike(function):
+    """For each name or attribute that a function assigns: all that may be one thing with it, wherever assigned."""
+    alike = {}
+    for node in ast.walk(function):
+        if isinstance(node, ast.Assign):
+            rows = [names for target in node.targets for names in given_by(target, node.value)]
+            if len(node.targets) > 1:
+                rows.append([name for target in node.targets for name in things_of(target)])
+            for names in rows:
+                joined = set(names).union(*[alike.get(name, set()) for name in names])
+                alike.update({name: joined for name in joined})
+    return alike
+
+
+def changed_while_walked(function):
+    """The ascending lines in which a loop of a function changes what it goes over, by this or by another name of it."""
+    alike = names_alike(function)
+    found = []
+    for loop in ast.walk(function):
+        if isinstance(loop, ast.For):
+            over, within = [loop.iter], loop.body
+        elif isinstance(loop, (ast.ListComp, ast.DictComp, ast.SetComp)):
+            over, within = [part.iter for part in loop.generators], [loop]
+        else:
+            continue
+        walked = [name for node in over for name in walked_in(node)]
+        barred = set(walked).union(*[alike.get(name, set()) for name in walked])
+        inner = [node for part in within for node in ast.walk(part)]
+        found.extend(node.lineno for node in inner if barred.intersection(changed_by(node)))
+    return sorted(set(found))
 
 
 class Language(unittest.TestCase):
@@ -244,6 +324,38 @@ class Language(unittest.TestCase):
                     if isinstance(node, ast.Call) and isinstance(node.func, ast.Attribute):
                         if node.func.attr in ("append", "extend", "pop", "insert", "remove", "clear"):
                             self.assertNotRegex(over, r"\b" + re.escape(ast.unparse(node.func.value)) + r"\b")
+
+    def test_loops_do_not_change_what_they_go_over_by_another_name(self):
+        # L5, L23
+        for path, _, tree in self.each():
+            for function in [node for node in ast.walk(tree) if isinstance(node, ast.FunctionDef)]:
+                self.assertEqual(changed_while_walked(function), [], (path, function.name))
+
+    def test_loops_that_change_what_they_go_over_are_found(self):
+        loop = ["for k in a:", "    b[k] = 1"]
+        wrong = [loop + ["a = b"], ["for k in a:", "    a[k] = 1"], ["for k in a:", "    a += [k]"]]
+        wrong += [[line] + loop for line in (
+            "a = b", "a, c = b", "a, c = 1, a; c, a = 2, b", "a = c; c = b", "c = a = b = {}", "a = b if c else d", "a = c or b",
+            "a = b[0]")]
+        wrong += [["a = b"] + rows for rows in (
+            ["for k in a:", "    if k:", "        c = b[k] = 1"], ["for k in a:", "    c, b[k] = 1, 2"],
+            ["for k, v in enumerate(a):", "    b[k] += v"], ["for k, v in a.items():", "    b[k] = v"],
+            ["for k, v in zip(c, a):", "    b.extend(k)"], ["for k in c:", "    for v in a:", "        b[v] = k"],
+            ["c = [b.append(k) for k in a]"])]
+        wrong += [["for k in a if c else b:", "    b.append(k)"], ["for k in a or b:", "    b.append(k)"],
+                  ["for k in a[0]:", "    a[0].pop()"], ["for k in a.c:", "    b.c.append(k)"], ["for k in a.c:", "    b.c = k"],
+                  ["a.c = b", "for k in a.c:", "    b.pop()"]]
+        for rows in wrong:
+            self.assertEqual(len(self.lines_found(rows)), 1, rows)
+        right = [[line] + loop for line in ("b = dict(a)", "b = a[:]", "a = told(a, b, c, d)", "a, c = d, b")]
+        right += [["a = b"] + rows for rows in (
+            ["for k in list(a):", "    b[k] = 1"], ["for k in a:", "    b = k"], ["for k in a:", "    c = k", "b[0] = 1"])]
+        right += [["for k in sorted(a):", "    a.pop()"], ["for k in a[1:]:", "    a[0] = k"], ["for k in range(a):", "    a += k"]]
+        for rows in right:
+            self.assertEqual(self.lines_found(rows), [], rows)
+
+    def lines_found(self, rows):
+        return changed_while_walked(ast.parse("\n    ".join(["def tried(a, b, c, d):"] + rows)).body[0])
 
     def test_errors(self):
         # L18, L19, L28
